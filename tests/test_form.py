@@ -1,6 +1,7 @@
 """The form of the package's files, where a few lines can see it."""
 
 import ast
+import builtins
 import pathlib
 import re
 import unittest
@@ -11,7 +12,8 @@ BARRED = re.compile(
     r"|NamedTuple|TypedDict|TYPE_CHECKING|abstractmethod)\b|dataclass|overload|contextmanager"
 )
 # Whatever reaches a clock, chance or a file is imported or is one of these.
-OUTSIDE = {"open", "input", "print", "exec", "eval", "compile", "globals", "id", "hash", "getattr", "vars", "__import__"}
+OUTSIDE = {"open", "input", "print", "exec", "eval", "compile", "globals"}
+OUTSIDE |= {"id", "hash", "getattr", "vars", "__import__"}
 
 
 def files():
@@ -20,6 +22,15 @@ def files():
 
 def trees():
     return [(path, ast.parse(path.read_text("ascii"))) for path in files()]
+
+
+def assigned(tree):
+    """The names of functions, parameters and variables in the file, those of Python's own methods aside."""
+    nodes = list(ast.walk(tree))
+    names = [node.name for node in nodes if isinstance(node, ast.FunctionDef)]
+    names += [node.arg for node in nodes if isinstance(node, ast.arg)]
+    names += [node.id for node in nodes if isinstance(node, ast.Name) and isinstance(node.ctx, ast.Store)]
+    return [name for name in names if not name.endswith("__")]
 
 
 class TestForm(unittest.TestCase):
@@ -46,6 +57,14 @@ class TestForm(unittest.TestCase):
             for node in ast.walk(tree):
                 if isinstance(node, ast.FunctionDef):
                     self.assertLessEqual(node.end_lineno - node.lineno + 1, 40, (path, node.name))
+
+    def test_names(self):
+        for path, tree in trees():
+            imported = [name.name for node in ast.walk(tree) if isinstance(node, ast.ImportFrom) for name in node.names]
+            for name in assigned(tree):
+                self.assertRegex(name, r"^[A-Za-z][A-Za-z0-9_]*$", path)
+                self.assertFalse(hasattr(builtins, name), (path, name))
+                self.assertNotIn(name, imported, path)
 
     def test_nothing_from_outside(self):
         for path, tree in trees():

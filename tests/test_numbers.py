@@ -1,10 +1,10 @@
 """numbers(grid, cells): what is told of the rim (points 1 to 3)."""
 
 import inspect
-import itertools
 import sys
 import unittest
 
+from reckoning import all_grids, counted, many_lists
 from sidering.grids import numbers
 
 BY_HAND = [
@@ -54,38 +54,6 @@ BY_HAND = [
 ]
 
 
-def four_sides(row, column):
-    """A cell's sides, each by its middle, in halves of a cell."""
-    down, right = 2 * row + 1, 2 * column + 1
-    return {(down - 1, right), (down + 1, right), (down, right - 1), (down, right + 1)}
-
-
-def reckoned(grid, cells):
-    """The same by sides: those that two of the cells have in common cancel out, the rest is the rim."""
-    rows, columns = grid
-    places = list(itertools.product(range(rows), range(columns)))
-    rim = set()
-    for cell in cells:
-        rim ^= four_sides(*places[cell])
-    return [[len(rim & four_sides(row, column)) for column in range(columns)] for row in range(rows)]
-
-
-def all_grids():
-    return list(itertools.product(range(1, 7), range(1, 7)))
-
-
-def patterns(many):
-    """Lists of cells of a grid of so many: each alone, all but one, runs, every so many."""
-    everything = list(range(many))
-    lists = [everything]
-    lists += [[cell] for cell in everything]
-    lists += [[cell for cell in everything if cell != gap] for gap in everything]
-    lists += [everything[low:high] for low in everything for high in range(low + 1, many + 1)]
-    lists += [everything[low::step] for step in range(2, 14) for low in range(step)]
-    lists += [[cell for cell in everything if cell * cell * 7 % 31 < part] for part in range(4, 31, 3)]
-    return [cells for cells in lists if cells]
-
-
 class TestToldByHand(unittest.TestCase):
     def test_by_hand(self):
         for label, grid, cells, wanted in BY_HAND:
@@ -98,19 +66,9 @@ class TestToldByHand(unittest.TestCase):
 
 
 class TestToldByReckoning(unittest.TestCase):
-    def test_all_lists_of_small_grids(self):
-        for grid in all_grids():
-            many = grid[0] * grid[1]
-            if many > 10:
-                continue
-            for bits in range(1, 1 << many):
-                cells = [cell for cell in range(many) if bits >> cell & 1]
-                self.assertEqual(numbers(grid, cells), reckoned(grid, cells), (grid, cells))
-
-    def test_many_lists_of_all_grids(self):
-        for grid in all_grids():
-            for cells in patterns(grid[0] * grid[1]):
-                self.assertEqual(numbers(grid, cells), reckoned(grid, cells), (grid, cells))
+    def test_many_lists(self):
+        for grid, cells in many_lists():
+            self.assertEqual(numbers(grid, cells), counted(grid, cells), (grid, cells))
 
 
 class TestNewAndPlain(unittest.TestCase):

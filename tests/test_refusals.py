@@ -1,9 +1,11 @@
-"""numbers(grid, cells): what is refused, and as what (points 1 and 2)."""
+"""What is refused where a grid, or a grid and cells, are handed in, and as what (points 1, 2, 6 and 7)."""
 
 import unittest
 
-from sidering.errors import BadCells, BadGrid
+from reckoning import all_grids
+from sidering.errors import BadCells, BadGrid, NoRing
 from sidering.grids import numbers
+from sidering.rings import judged, rings, walk
 from strange import GREAT, no_numbers
 
 NO_LENGTHS = [
@@ -81,46 +83,88 @@ def no_cells():
     return listed
 
 
-class TestRefusals(unittest.TestCase):
+class Refusals(unittest.TestCase):
     # The first failure ends a test: a program that took a very great grid would not come to an end.
-    def refuses(self, kind, grid, cells, label=None):
-        with self.assertRaises(Exception, msg=label) as caught:
-            numbers(grid, cells)
-        self.assertIs(type(caught.exception), kind, label)
+    def refuses(self, kind, door, *handed, label=None):
+        with self.assertRaises(Exception, msg=(door.__name__, label)) as caught:
+            door(*handed)
+        self.assertIs(type(caught.exception), kind, (door.__name__, label))
+
+
+class TestGridAndCells(Refusals):
+    DOORS = (numbers, judged, walk)
 
     def test_no_grid(self):
-        for label, grid in no_grids():
-            self.refuses(BadGrid, grid, [0], label)
+        for door in self.DOORS:
+            for label, grid in no_grids():
+                self.refuses(BadGrid, door, grid, [0], label=label)
 
     def test_no_cells(self):
-        for label, cells in no_cells():
-            self.refuses(BadCells, (3, 3), cells, label)
+        for door in self.DOORS:
+            for label, cells in no_cells():
+                self.refuses(BadCells, door, (3, 3), cells, label=label)
 
     def test_both_wrong(self):
-        for label, grid in no_grids():
-            for other, cells in NO_RISING + no_lists() + [("no number", [None]), ("True", [True])]:
-                self.refuses(BadGrid, grid, cells, label + ", " + other)
+        for door in self.DOORS:
+            for label, grid in no_grids():
+                for other, cells in NO_RISING + no_lists() + [("no number", [None]), ("True", [True])]:
+                    self.refuses(BadGrid, door, grid, cells, label=label + ", " + other)
 
     def test_the_first_cell_beyond_each_grid(self):
-        for rows in range(1, 7):
-            for columns in range(1, 7):
-                grid, many = (rows, columns), rows * columns
-                self.assertEqual(numbers(grid, [many - 1])[-1][-1], 4, grid)
-                self.refuses(BadCells, grid, [many], grid)
-                self.refuses(BadCells, grid, list(range(many + 1)), grid)
+        for door in self.DOORS:
+            for grid in all_grids():
+                many = grid[0] * grid[1]
+                door(grid, [many - 1])
+                self.refuses(BadCells, door, grid, [many], label=grid)
+                self.refuses(BadCells, door, grid, list(range(many + 1)), label=grid)
 
     def test_true_and_false_as_cells_or_lengths_where_1_and_0_would_do(self):
-        self.assertEqual(numbers((1, 2), [0, 1]), [[3, 3]])
-        self.refuses(BadCells, (1, 2), [False, 1])
-        self.refuses(BadCells, (1, 2), [0, True])
-        self.refuses(BadGrid, (True, 2), [0, 1])
-        self.refuses(BadGrid, (2, True), [0, 1])
+        for door in self.DOORS:
+            door((1, 2), [0, 1])
+            self.refuses(BadCells, door, (1, 2), [False, 1])
+            self.refuses(BadCells, door, (1, 2), [0, True])
+            self.refuses(BadGrid, door, (True, 2), [0, 1])
+            self.refuses(BadGrid, door, (2, True), [0, 1])
 
     def test_a_refusal_changes_nothing(self):
-        cells = [0, 2, 1]
-        self.refuses(BadCells, (3, 3), cells)
-        self.assertEqual(cells, [0, 2, 1])
-        self.assertEqual(numbers((3, 3), [0, 2]), [[4, 2, 4], [1, 0, 1], [0, 0, 0]])
+        for door in self.DOORS:
+            cells = [0, 2, 1]
+            before = repr(door((3, 3), [0, 1]))
+            self.refuses(BadCells, door, (3, 3), cells)
+            self.assertEqual(cells, [0, 2, 1])
+            if door != judged:
+                self.assertEqual(repr(door((3, 3), [0, 1])), before)
+
+
+class TestNoRingComesLast(Refusals):
+    def test_no_ring(self):
+        self.refuses(NoRing, walk, (3, 3), [0, 2])
+        self.refuses(NoRing, walk, (3, 3), [0, 1, 2, 3, 5, 6, 7, 8])
+        self.refuses(NoRing, walk, (1, 6), [0, 5])
+        self.refuses(NoRing, walk, (6, 6), [0, 35])
+
+    def test_behind_the_others(self):
+        for cells in ([0, 2, 2], [2, 0], [0, 2, 9], [-1, 1], [0, 2, None], (0, 2)):
+            self.refuses(BadCells, walk, (3, 3), cells)
+        for grid in ((7, 3), (3, 0), [3, 3], None):
+            self.refuses(BadGrid, walk, grid, [0, 2])
+
+
+class TestGridAlone(Refusals):
+    def test_no_grid(self):
+        for label, grid in no_grids():
+            self.refuses(BadGrid, rings, grid, label=label)
+
+    def test_more_than_nine_cells(self):
+        # Those of few cells first: of more a program that took them would list without end.
+        for grid in all_grids():
+            if grid[0] * grid[1] > 9:
+                self.refuses(BadGrid, rings, grid, label=grid)
+
+    def test_nine_cells_are_not_too_many(self):
+        self.assertEqual(rings((3, 3))[0], [0])
+        self.assertEqual(rings((2, 4))[0], [0])
+        self.assertEqual(rings((4, 2))[-1], [7])
 
 
 if __name__ == "__main__":
